@@ -1,0 +1,52 @@
+// Package batten: a document kept in step with what several tasks do: see DOC.md.
+package batten
+
+import (
+	"batten/api"
+	"batten/tree"
+)
+
+// Check looks at a tree (P3).
+func Check(l []api.Node) (api.Errno, int) { return tree.Check(l) }
+
+// Dom is a document.
+type Dom struct{}
+
+// NewDom makes one of a tree (P4).
+func NewDom(l []api.Node) (*Dom, api.Errno, int) { return nil, api.OK, 0 }
+
+// Tree tells the document as a tree (P4).
+func (d *Dom) Tree() []api.Node { return nil }
+
+// IDs tells the numbers of its nodes (P4).
+func (d *Dom) IDs() []int { return nil }
+
+// Loose tells how many nodes stand nowhere (P4).
+func (d *Dom) Loose() int { return 0 }
+
+// Apply does patches (P5).
+func (d *Dom) Apply(l ...api.Patch) (api.Errno, int) { return api.OK, 0 }
+
+// Diff tells the patches to another tree (P6).
+func (d *Dom) Diff(l []api.Node) ([]api.Patch, api.Errno, int) { return nil, api.OK, 0 }
+
+// UI is tasks, their queue, components, and the document.
+type UI struct{}
+
+// NewUI makes one (P7).
+func NewUI(tasks [][]api.Op) (*UI, api.Errno, int) { return nil, api.OK, 0 }
+
+// Step lets a task do its next step (P8).
+func (u *UI) Step(task int) api.Errno { return api.OK }
+
+// Tree tells the document as a tree (P9).
+func (u *UI) Tree() []api.Node { return nil }
+
+// IDs tells the numbers of its nodes (P9).
+func (u *UI) IDs() []int { return nil }
+
+// Events tells what the tasks were told (P9).
+func (u *UI) Events() []api.Event { return nil }
+
+// Commits tells what was committed (P9).
+func (u *UI) Commits() []api.Commit { return nil }
