@@ -3,6 +3,7 @@ package batten
 
 import (
 	"batten/api"
+	"batten/dom"
 	"batten/tree"
 )
 
@@ -10,22 +11,28 @@ import (
 func Check(l []api.Node) (api.Errno, int) { return tree.Check(l) }
 
 // Dom is a document.
-type Dom struct{}
+type Dom struct{ doc *dom.Doc }
 
 // NewDom makes one of a tree (P4).
-func NewDom(l []api.Node) (*Dom, api.Errno, int) { return nil, api.OK, 0 }
+func NewDom(l []api.Node) (*Dom, api.Errno, int) {
+	doc, no, at := dom.New(l)
+	if no != api.OK {
+		return nil, no, at
+	}
+	return &Dom{doc}, api.OK, 0
+}
 
 // Tree tells the document as a tree (P4).
-func (d *Dom) Tree() []api.Node { return nil }
+func (d *Dom) Tree() []api.Node { return d.doc.Tree() }
 
 // IDs tells the numbers of its nodes (P4).
-func (d *Dom) IDs() []int { return nil }
+func (d *Dom) IDs() []int { return d.doc.IDs() }
 
 // Loose tells how many nodes stand nowhere (P4).
-func (d *Dom) Loose() int { return 0 }
+func (d *Dom) Loose() int { return d.doc.Loose() }
 
 // Apply does patches (P5).
-func (d *Dom) Apply(l ...api.Patch) (api.Errno, int) { return api.OK, 0 }
+func (d *Dom) Apply(l ...api.Patch) (api.Errno, int) { return d.doc.Apply(l...) }
 
 // Diff tells the patches to another tree (P6).
 func (d *Dom) Diff(l []api.Node) ([]api.Patch, api.Errno, int) { return nil, api.OK, 0 }

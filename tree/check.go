@@ -20,9 +20,9 @@ func Check(l []api.Node) (api.Errno, int) {
 // do the depths ahead lead back to a parent.
 func mayBe(l []api.Node, i int) bool {
 	if i == 0 {
-		return l[0].Depth == 0 && isElement(l[0])
+		return l[0].Depth == 0 && IsElement(l[0])
 	}
-	return depthFits(l[i-1].Depth, l[i].Depth) && (isElement(l[i]) || isTextNode(l[i])) && placeFits(l, i)
+	return depthFits(l[i-1].Depth, l[i].Depth) && (IsElement(l[i]) || IsTextNode(l[i])) && placeFits(l, i)
 }
 
 func depthFits(ahead, depth int) bool {
@@ -44,12 +44,14 @@ func placeFits(l []api.Node, i int) bool {
 	return false
 }
 
-func isElement(n api.Node) bool {
-	return isName(n.Tag) && n.Text == "" && n.Key >= 0 && areAttrs(n.Attrs)
+// IsElement looks at the node alone, not at its place.
+func IsElement(n api.Node) bool {
+	return IsName(n.Tag) && n.Text == "" && n.Key >= 0 && areAttrs(n.Attrs)
 }
 
-func isTextNode(n api.Node) bool {
-	return n.Tag == "" && n.Key == 0 && len(n.Attrs) == 0 && isText(n.Text)
+// IsTextNode looks at the node alone, not at its place.
+func IsTextNode(n api.Node) bool {
+	return n.Tag == "" && n.Key == 0 && len(n.Attrs) == 0 && IsText(n.Text)
 }
 
 // areAttrs asks for names that rise, so that none comes twice and an element
@@ -59,14 +61,15 @@ func areAttrs(l []api.Attr) bool {
 		return false
 	}
 	for i, a := range l {
-		if !isName(a.Name) || !isText(a.Value) || i > 0 && l[i-1].Name >= a.Name {
+		if !IsName(a.Name) || !IsText(a.Value) || i > 0 && l[i-1].Name >= a.Name {
 			return false
 		}
 	}
 	return true
 }
 
-func isName(s string) bool {
+// IsName tells whether a tag, or an attribute's name, is one.
+func IsName(s string) bool {
 	if len(s) < 1 || len(s) > api.MaxName {
 		return false
 	}
@@ -78,5 +81,5 @@ func isName(s string) bool {
 	return true
 }
 
-// isText counts bytes: a text need not be UTF-8.
-func isText(s string) bool { return len(s) <= api.MaxText }
+// IsText counts bytes: a text need not be UTF-8.
+func IsText(s string) bool { return len(s) <= api.MaxText }
