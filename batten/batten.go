@@ -35,7 +35,7 @@ func (d *Dom) Loose() int { return d.doc.Loose() }
 func (d *Dom) Apply(l ...api.Patch) (api.Errno, int) { return d.doc.Apply(l...) }
 
 // Diff tells the patches to another tree (P6).
-func (d *Dom) Diff(l []api.Node) ([]api.Patch, api.Errno, int) { return nil, api.OK, 0 }
+func (d *Dom) Diff(l []api.Node) ([]api.Patch, api.Errno, int) { return d.doc.Diff(l) }
 
 // UI is tasks, their queue, components, and the document.
 type UI struct{}

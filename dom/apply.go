@@ -86,7 +86,7 @@ func (d *Doc) remove(p api.Patch) bool {
 		return false
 	}
 	n.leave()
-	n.each(0, func(m *node, _ int) { delete(d.nodes, m.id) })
+	n.each(func(m *node) { delete(d.nodes, m.id) })
 	return true
 }
 

@@ -59,19 +59,22 @@ func (d *Doc) add(t api.Node) *node {
 func own(s string) string { return strings.Clone(s) }
 
 // Tree tells the attached nodes as a tree.
-func (d *Doc) Tree() []api.Node {
-	var l []api.Node
-	d.root.each(0, func(n *node, depth int) {
-		attrs := append([]api.Attr(nil), n.attrs...)
-		l = append(l, api.Node{Depth: depth, Tag: n.tag, Key: n.key, Attrs: attrs, Text: n.text})
-	})
-	return l
+func (d *Doc) Tree() []api.Node { return d.root.part(0) }
+
+// part is a node at a depth, and all within it.
+func (n *node) part(depth int) []api.Node {
+	var parts [][]api.Node
+	for _, k := range n.kids {
+		parts = append(parts, k.part(depth+1))
+	}
+	attrs := append([]api.Attr(nil), n.attrs...)
+	return tree.Join(api.Node{Depth: depth, Tag: n.tag, Key: n.key, Attrs: attrs, Text: n.text}, parts...)
 }
 
 // IDs tells the numbers of the attached nodes, in the order of Tree.
 func (d *Doc) IDs() []int {
 	var l []int
-	d.root.each(0, func(n *node, _ int) { l = append(l, n.id) })
+	d.root.each(func(n *node) { l = append(l, n.id) })
 	return l
 }
 
@@ -79,10 +82,10 @@ func (d *Doc) IDs() []int {
 func (d *Doc) Loose() int { return len(d.nodes) - len(d.IDs()) }
 
 // each goes through a node and all within it, each ahead of what is within it.
-func (n *node) each(depth int, see func(n *node, depth int)) {
-	see(n, depth)
+func (n *node) each(see func(n *node)) {
+	see(n)
 	for _, k := range n.kids {
-		k.each(depth+1, see)
+		k.each(see)
 	}
 }
 
