@@ -5,6 +5,7 @@ import (
 	"batten/api"
 	"batten/dom"
 	"batten/tree"
+	"batten/ui"
 )
 
 // Check looks at a tree (P3).
@@ -38,22 +39,28 @@ func (d *Dom) Apply(l ...api.Patch) (api.Errno, int) { return d.doc.Apply(l...) 
 func (d *Dom) Diff(l []api.Node) ([]api.Patch, api.Errno, int) { return d.doc.Diff(l) }
 
 // UI is tasks, their queue, components, and the document.
-type UI struct{}
+type UI struct{ ui *ui.UI }
 
 // NewUI makes one (P7).
-func NewUI(tasks [][]api.Op) (*UI, api.Errno, int) { return nil, api.OK, 0 }
+func NewUI(tasks [][]api.Op) (*UI, api.Errno, int) {
+	made, no, at := ui.New(tasks)
+	if no != api.OK {
+		return nil, no, at
+	}
+	return &UI{made}, api.OK, 0
+}
 
 // Step lets a task do its next step (P8).
-func (u *UI) Step(task int) api.Errno { return api.OK }
+func (u *UI) Step(task int) api.Errno { return u.ui.Step(task) }
 
 // Tree tells the document as a tree (P9).
-func (u *UI) Tree() []api.Node { return nil }
+func (u *UI) Tree() []api.Node { return u.ui.Tree() }
 
 // IDs tells the numbers of its nodes (P9).
-func (u *UI) IDs() []int { return nil }
+func (u *UI) IDs() []int { return u.ui.IDs() }
 
 // Events tells what the tasks were told (P9).
-func (u *UI) Events() []api.Event { return nil }
+func (u *UI) Events() []api.Event { return u.ui.Events() }
 
 // Commits tells what was committed (P9).
-func (u *UI) Commits() []api.Commit { return nil }
+func (u *UI) Commits() []api.Commit { return u.ui.Commits() }
